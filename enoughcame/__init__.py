@@ -1,0 +1,1 @@
+"""Enoughcame: people who come when enough of others have come."""

@@ -1,0 +1,75 @@
+"""Companies: tuples of pairs (friends, need), one for each person."""
+
+from enoughcame.errors import NoPerson
+
+
+def is_company(thing):
+    """Whether thing is a COMPANY."""
+    if not isinstance(thing, tuple):
+        return False
+    many = len(thing)
+    return all([is_entry(entry, person, many) for person, entry in enumerate(thing)])
+
+
+def is_people(company, thing):
+    """Whether thing is PEOPLE of the company."""
+    return are_people(thing, len(company))
+
+
+def with_need(company, person, need):
+    """The COMPANY in which that person has that need."""
+    return with_needs(company, {person: need})
+
+
+def invited(company, people):
+    """The COMPANY in which all of these people have the need 0."""
+    return with_needs(company, {person: 0 for person in people})
+
+
+def joined(one, other):
+    """The COMPANY of the people of one, followed by those of other."""
+    return renumbered(one, 0) + renumbered(other, len(one))
+
+
+def is_number(thing):
+    """Whether thing is a number."""
+    # Python counts True and False among the ints.
+    return isinstance(thing, int) and not isinstance(thing, bool)
+
+
+def are_people(thing, many):
+    """Whether thing is an ascending tuple of people of a company of that many."""
+    if not isinstance(thing, tuple):
+        return False
+    least = 0
+    for person in thing:
+        if not is_number(person) or not least <= person < many:
+            return False
+        # The bound keeps the numbers ascending and apart.
+        least = person + 1
+    return True
+
+
+def is_entry(thing, person, many):
+    """Whether thing is a pair (friends, need) for that person of a company of that many."""
+    if not isinstance(thing, tuple) or len(thing) != 2:
+        return False
+    friends, need = thing
+    if not are_people(friends, many) or person in friends:
+        return False
+    return is_number(need) and need >= 0
+
+
+def with_needs(company, needs):
+    """The COMPANY with the needs of a dict by person, all others as they were."""
+    many = len(company)
+    # A dict keeps the order of the argument, so the first wrong person is told.
+    for person in needs:
+        if not 0 <= person < many:
+            raise NoPerson(person)
+    return tuple([(tuple(friends), needs.get(person, need)) for person, (friends, need) in enumerate(company)])
+
+
+def renumbered(company, shift):
+    """The entries of the company, with the numbers of all friends increased by shift."""
+    return tuple([(tuple([friend + shift for friend in friends]), need) for friends, need in company])
