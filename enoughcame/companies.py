@@ -28,7 +28,7 @@ def invited(company, people):
 
 def joined(one, other):
     """The COMPANY of the people of one, followed by those of other."""
-    return renumbered(one, 0) + renumbered(other, len(one))
+    return as_tuples(one) + renumbered(other, len(one))
 
 
 def is_number(thing):
@@ -62,14 +62,28 @@ def is_entry(thing, person, many):
 
 def with_needs(company, needs):
     """The COMPANY with the needs of a dict by person, all others as they were."""
-    many = len(company)
     # A dict keeps the order of the argument, so the first wrong person is told.
     for person in needs:
-        if not 0 <= person < many:
-            raise NoPerson(person)
+        check_person(company, person)
     return tuple([(tuple(friends), needs.get(person, need)) for person, (friends, need) in enumerate(company)])
 
 
 def renumbered(company, shift):
     """The entries of the company, with the numbers of all friends increased by shift."""
     return tuple([(tuple([friend + shift for friend in friends]), need) for friends, need in company])
+
+
+def as_tuples(company):
+    """The COMPANY, although lists may stand for its tuples."""
+    return renumbered(company, 0)
+
+
+def check_person(company, person):
+    """Raises NoPerson if the person is not in the company."""
+    if not 0 <= person < len(company):
+        raise NoPerson(person)
+
+
+def count_in(friends, there):
+    """How many of the friends are there."""
+    return len([friend for friend in friends if friend in there])

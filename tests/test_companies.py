@@ -1,15 +1,12 @@
 """Point 4, with the general rules of points 2 and 3."""
 
 import copy
-import doctest
 import itertools
 import unittest
 
 from enoughcame.companies import invited, is_company, is_people, joined, with_need
 from enoughcame.errors import NoPerson
-
-FOUR = (((), 0), ((0, 2), 1), ((1, 3), 1), ((), 0))
-FIVE = FOUR + (((1, 2, 3), 2),)
+from support import FIVE, FOUR, OTHER_KINDS, SharedTest, as_lists, list_for_one_tuple, part_exchanged
 
 EXAMPLES = """
     >>> is_company(((), 0)), is_company((((), 0),)), is_company((((0,), 1),)), is_people(four, (0, 2))
@@ -20,61 +17,16 @@ EXAMPLES = """
     ((((), 0), ((0, 2), 1), ((1, 3), 0), ((), 0)), (((), 0), ((2,), 1), ((), 0)))
 """
 
-OTHER_KINDS = (None, True, False, 0, 1, -1, "", "0", "ab", [], (None,), ((),), [[]], ([],))
 
-
-def as_lists(value):
-    """The same value with a list for every tuple."""
-    if isinstance(value, (list, tuple)):
-        return [as_lists(part) for part in value]
-    return value
-
-
-def list_for_one_tuple(value):
-    """All values in which a list stands for exactly one of the tuples, at any depth."""
-    if not isinstance(value, tuple):
-        return []
-    changed = [list(value)]
-    for at, part in enumerate(value):
-        changed.extend([value[:at] + (new,) + value[at + 1:] for new in list_for_one_tuple(part)])
-    return changed
-
-
-def part_exchanged(value, new):
-    """All values in which new stands for exactly one part, the whole value included."""
-    changed = [new]
-    if isinstance(value, tuple):
-        for at, part in enumerate(value):
-            changed.extend([value[:at] + (inner,) + value[at + 1:] for inner in part_exchanged(part, new)])
-    return changed
-
-
-def shape(value):
-    """The value with the kind of each part, since 1 == True in Python."""
-    if isinstance(value, (list, tuple)):
-        return type(value), [shape(part) for part in value]
-    return type(value), value
-
-
-class CompanyTest(unittest.TestCase):
-    def assert_same(self, got, expected):
-        """Equal, and of the same kind in every part."""
-        self.assertEqual(shape(got), shape(expected))
-
+class CompanyTest(SharedTest):
     def assert_no_person(self, missing, function, *given, **named):
-        with self.assertRaises(NoPerson) as caught:
-            function(*given, **named)
-        self.assert_same(caught.exception.person, missing)
+        self.assert_raises(NoPerson, missing, function, *given, **named)
 
 
-class Examples(unittest.TestCase):
+class Examples(SharedTest):
     def test_as_they_stand_in_the_document(self):
-        names = dict(is_company=is_company, is_people=is_people, with_need=with_need, invited=invited,
-                     joined=joined, four=FOUR, five=FIVE)
-        examples = doctest.DocTestParser().get_doctest(EXAMPLES, names, "point 4", None, 0)
-        told = []
-        outcome = doctest.DocTestRunner(verbose=False).run(examples, out=told.append)
-        self.assertEqual((outcome.attempted, outcome.failed), (3, 0), "".join(told))
+        names = dict(is_company=is_company, is_people=is_people, with_need=with_need, invited=invited, joined=joined)
+        self.assert_examples(EXAMPLES, 3, names)
 
 
 class IsCompany(CompanyTest):

@@ -36,6 +36,23 @@ def names_bound(tree):
     return bound
 
 
+def methods_and_attributes():
+    """The names of all methods and of all attributes that the files assign."""
+    methods, attributes = set(), set()
+    for _, node in nodes():
+        if isinstance(node, ast.ClassDef):
+            methods.update([part.name for part in node.body if isinstance(part, ast.FunctionDef)])
+        elif isinstance(node, ast.Attribute) and isinstance(node.ctx, ast.Store):
+            attributes.add(node.attr)
+    return methods, attributes
+
+
+def imports_of(path):
+    """The files of the package that a file imports from."""
+    return [node.module.partition(".")[2] for node in ast.walk(ast.parse(path.read_text()))
+            if isinstance(node, ast.ImportFrom)]
+
+
 def nodes():
     """All parts of all files, each with the name of its file."""
     return [(path.name, node) for path in FILES for node in ast.walk(ast.parse(path.read_text()))]
@@ -65,6 +82,56 @@ class Language(unittest.TestCase):
                 self.assertEqual(node.level, 0, name)
                 self.assertTrue((PACKAGE / (node.module.partition(".")[2] + ".py")).exists(), node.module)
                 self.assertNotIn("*", [alias.name for alias in node.names], name)
+
+    def test_imports_name_the_file_that_defines_the_name(self):
+        for name, node in nodes():
+            if isinstance(node, ast.ImportFrom):
+                source = ast.parse((PACKAGE / (node.module.partition(".")[2] + ".py")).read_text())
+                defined = [part.name for part in source.body if isinstance(part, (ast.FunctionDef, ast.ClassDef))]
+                defined += [target.id for part in source.body if isinstance(part, ast.Assign)
+                            for target in part.targets]
+                for alias in node.names:
+                    self.assertIn(alias.name, defined, name)
+
+    def test_no_files_import_from_each_other(self):
+        left = {path.stem: imports_of(path) for path in FILES}
+        while left:
+            free = [name for name, needed in left.items() if not set(needed) & set(left)]
+            self.assertTrue(free, left)
+            left = {name: needed for name, needed in left.items() if name not in free}
+
+    def test_no_name_is_a_method_and_an_attribute(self):
+        methods, attributes = methods_and_attributes()
+        self.assertEqual(methods & attributes, set())
+
+    def test_own_names_are_not_those_of_builtin_values(self):
+        methods, attributes = methods_and_attributes()
+        builtin = {name for value in ("", 0, [], {}, (), set(), b"") for name in dir(value)}
+        self.assertEqual({name for name in methods | attributes if not DOUBLE_UNDERSCORES.fullmatch(name)} & builtin,
+                         set())
+
+    def test_no_variable_has_the_name_of_an_import_or_a_class(self):
+        for path in FILES:
+            tree = ast.parse(path.read_text())
+            taken = {alias.name for node in tree.body if isinstance(node, ast.ImportFrom) for alias in node.names}
+            taken |= {node.name for node in tree.body if isinstance(node, ast.ClassDef)}
+            for node in ast.walk(tree):
+                if isinstance(node, ast.arg):
+                    self.assertNotIn(node.arg, taken, path.name)
+                elif isinstance(node, ast.Name) and not isinstance(node.ctx, ast.Load):
+                    self.assertNotIn(node.id, taken, path.name)
+
+    def test_what_a_class_with_equality_rules_out(self):
+        for name, node in nodes():
+            self.assertNotIsInstance(node, (ast.GeneratorExp, ast.Match), name)
+            self.assertFalse(isinstance(node, ast.Attribute) and node.attr == "sort", name)
+
+    def test_is_stands_beside_none_true_and_false_alone(self):
+        for name, node in nodes():
+            if isinstance(node, ast.Compare):
+                for sign, right in zip(node.ops, node.comparators):
+                    if isinstance(sign, (ast.Is, ast.IsNot)):
+                        self.assertIn(ast.unparse(right), ("None", "True", "False"), name)
 
     def test_functions_are_short(self):
         for name, node in nodes():
