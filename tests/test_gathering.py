@@ -3,7 +3,6 @@
 import random
 import unittest
 
-from enoughcame.coming import never
 from enoughcame.companies import is_company
 from enoughcame.errors import Early, Full, Here, NoOperation, NoPerson
 from enoughcame.gathering import Gathering
@@ -624,7 +623,10 @@ class ManyOperations(GatheringTest):
         self.assert_same(gathering.operations(), len(operations))
         self.assert_same(gathering.waiting(), [one for one in range(len(model.entries)) if one not in model.row])
         self.assert_same(gathering.next_people(), model.meet())
-        self.assert_same(gathering.will_never(), never(tuple(model.entries)))
+        while model.meet():
+            pass
+        stuck = [one for one in range(len(model.entries)) if one not in model.row]
+        self.assert_same(gathering.will_never(), tuple(stuck))
         self.assertIs(is_company(gathering.company()), True)
 
     def assert_like_a_new_one(self, gathering):
