@@ -1,6 +1,7 @@
 """Companies: tuples of pairs (friends, need), one for each person."""
 
-from enoughcame.errors import NoPerson
+from enoughcame.errors import NoPerson, TooMany
+from enoughcame.most import MOST_PEOPLE
 
 
 def is_company(thing):
@@ -35,6 +36,11 @@ def is_number(thing):
     """Whether thing is a number."""
     # Python counts True and False among the ints.
     return isinstance(thing, int) and not isinstance(thing, bool)
+
+
+def is_index(thing, values):
+    """Whether thing is a number that counts one of the values."""
+    return is_number(thing) and 0 <= thing < len(values)
 
 
 def are_people(thing, many):
@@ -82,6 +88,13 @@ def check_person(company, person):
     """Raises NoPerson if the person is not in the company."""
     if not 0 <= person < len(company):
         raise NoPerson(person)
+
+
+def check_few(company):
+    """Raises TooMany if the company is not a small one."""
+    many = len(company)
+    if many > MOST_PEOPLE:
+        raise TooMany(many)
 
 
 def count_in(friends, there):

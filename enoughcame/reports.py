@@ -1,6 +1,6 @@
 """Unknown needs: what reports of who came, and of who could not, tell about them."""
 
-from enoughcame.companies import count_in, is_number
+from enoughcame.companies import count_in, is_index, is_number
 from enoughcame.errors import Contradiction
 
 
@@ -56,11 +56,6 @@ def verdict(friends, reports, row):
     if all([most is not None and most <= count for (least, most), count in zip(bounds, counts)]):
         return "yes"
     return "open"
-
-
-def is_index(thing, values):
-    """Whether thing is a number that counts one of the values."""
-    return is_number(thing) and 0 <= thing < len(values)
 
 
 def is_evidence(friends, reports, person, i, j):

@@ -1,11 +1,19 @@
 """What the tests of several modules share."""
 
+import copy
 import doctest
 import itertools
+import random
 import unittest
 
 FOUR = (((), 0), ((0, 2), 1), ((1, 3), 1), ((), 0))
 FIVE = FOUR + (((1, 2, 3), 2),)
+# Each of the two waits for the other one.
+PAIR = (((1,), 1), ((0,), 1))
+# 0 comes, 1 and 2 wait for each other, 3 needs more friends than there are, 4 waits for 3.
+MIXED = (((), 0), ((0, 2), 2), ((1,), 1), ((0,), 2), ((3,), 1))
+# 1 comes after 0, 2 after 1, and so on.
+CHAIN = (((), 0),) + tuple([((person - 1,), 1) for person in range(1, 20)])
 
 OTHER_KINDS = (None, True, False, 0, 1, -1, "", "0", "ab", [], (None,), ((),), [[]], ([],))
 
@@ -64,6 +72,75 @@ def random_company(source, many):
     return tuple(rows)
 
 
+def random_open_company(source, many):
+    """A company of that many people, all of whom can come: at least in one row, drawn first."""
+    row = source.sample(range(many), many)
+    rows = []
+    for person, (friends, _) in enumerate(random_company(source, many)):
+        ahead = set(friends) & set(row[:row.index(person)])
+        rows.append((friends, source.randrange(len(ahead) + 1)))
+    return tuple(rows)
+
+
+def small_companies():
+    """All companies of up to two people, and many of three, with needs up to one more than all friends."""
+    for many in range(4):
+        entries = [
+            [(friends, need) for friends in subsets(many) if person not in friends for need in range(many + 1)]
+            for person in range(many)
+        ]
+        step = 7 if many == 3 else 1
+        yield from itertools.islice(itertools.product(*entries), 0, None, step)
+
+
+def open_companies(seed):
+    """Small companies in which everybody can come."""
+    source = random.Random(seed)
+    return ([company for company in small_companies() if orders_by_trying(company)]
+            + [random_open_company(source, source.randrange(4, 6)) for _ in range(40)])
+
+
+def can_come(company, person, there):
+    """Whether enough friends of the person are there."""
+    friends, need = company[person]
+    return len(set(friends) & set(there)) >= need
+
+
+def first_misfit(company, row):
+    """The index of the first one of the row who cannot come after those before, None if there is none."""
+    wrong = [at for at, person in enumerate(row) if not can_come(company, person, row[:at])]
+    return min(wrong, default=None)
+
+
+def fits(company, row):
+    """Whether the people of the row can come one after another."""
+    return first_misfit(company, row) is None
+
+
+def orders_by_trying(company):
+    """The ascending list of all orders, found by trying every row."""
+    return [row for row in itertools.permutations(range(len(company))) if fits(company, row)]
+
+
+def stuck_by_trying(company):
+    """The people who never come, found by letting everybody come."""
+    there = []
+    while True:
+        able = [one for one in range(len(company)) if one not in there and can_come(company, one, there)]
+        if not able:
+            return tuple([one for one in range(len(company)) if one not in there])
+        there.extend(able)
+
+
+def random_order(source, company):
+    """An order of a company in which everybody can come."""
+    row = []
+    while len(row) < len(company):
+        row.append(source.choice([one for one in range(len(company))
+                                  if one not in row and can_come(company, one, row)]))
+    return tuple(row)
+
+
 def told(error):
     """How the document writes an error."""
     attributes = ", ".join([f"{name}={value!r}" for name, value in vars(error).items()])
@@ -93,6 +170,21 @@ class SharedTest(unittest.TestCase):
         self.assertIs(type(caught.exception), error)
         (kept,) = vars(caught.exception).values()
         self.assert_same(kept, value)
+
+    def assert_unchanged(self, function, *given):
+        """The call leaves its arguments as they were, whether it returns or raises an error."""
+        kept = copy.deepcopy(given)
+        shown("function(*given)", dict(function=function, given=given))
+        self.assert_same(given, kept)
+
+    def assert_belongs_to_the_caller(self, function, *given):
+        """What the caller does to a returned list has no effect on the next call."""
+        kept = copy.deepcopy(function(*given))
+        result = function(*given)
+        self.assertIsInstance(result, list)
+        result.append("x")
+        result[0] = None
+        self.assert_same(function(*given), kept)
 
     def assert_examples(self, text, many, names):
         """The examples, of which there are so many, hold as they stand in the document."""

@@ -7,7 +7,8 @@ import unittest
 
 from enoughcame.coming import comes_without, greatest, is_possible, never, next_people, rounds, shows_stuck
 from enoughcame.companies import invited, is_people, joined, with_need
-from support import FIVE, FOUR, OTHER_KINDS, SharedTest, as_lists, list_for_one_tuple, random_company, subsets
+from support import (CHAIN, FIVE, FOUR, MIXED, OTHER_KINDS, PAIR, SharedTest, as_lists, fits, list_for_one_tuple,
+                     random_company, small_companies, subsets)
 
 EXAMPLES = """
     >>> next_people(five, ()), next_people(five, (0, 3)), next_people(five, (1, 2))
@@ -22,33 +23,10 @@ EXAMPLES = """
     [(0, 3), (1, 2), (4,)]
 """
 
-# Each of the two waits for the other one.
-PAIR = (((1,), 1), ((0,), 1))
-# 0 comes, 1 and 2 wait for each other, 3 needs more friends than there are, 4 waits for 3.
-MIXED = (((), 0), ((0, 2), 2), ((1,), 1), ((0,), 2), ((3,), 1))
-# 1 comes after 0, 2 after 1, and so on.
-CHAIN = (((), 0),) + tuple([((person - 1,), 1) for person in range(1, 20)])
-
-
-def small_companies():
-    """All companies of up to two people, and many of three, with needs up to one more than all friends."""
-    for many in range(4):
-        entries = [
-            [(friends, need) for friends in subsets(many) if person not in friends for need in range(many + 1)]
-            for person in range(many)
-        ]
-        step = 7 if many == 3 else 1
-        yield from itertools.islice(itertools.product(*entries), 0, None, step)
-
 
 def random_companies():
     source = random.Random(5)
     return [random_company(source, source.randrange(4, 7)) for _ in range(60)]
-
-
-def fits(company, row):
-    """Whether the people of the row can come one after another."""
-    return all(len(set(company[person][0]) & set(row[:at])) >= company[person][1] for at, person in enumerate(row))
 
 
 def possible_sets(company):
