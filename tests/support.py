@@ -6,6 +6,8 @@ import itertools
 import random
 import unittest
 
+from enoughcame.errors import Early, Full, Here, NoPerson
+
 FOUR = (((), 0), ((0, 2), 1), ((1, 3), 1), ((), 0))
 FIVE = FOUR + (((1, 2, 3), 2),)
 # Each of the two waits for the other one.
@@ -156,6 +158,82 @@ def shown(source, names):
             raise
         return told(error) + "\n"
     return "" if result is None else repr(result) + "\n"
+
+
+class Model:
+    """A company and a row, changed by the words of the document; raises what it says."""
+
+    def __init__(self, company):
+        self.entries, self.row = list(company), []
+
+    def twin(self):
+        return copy.deepcopy(self)
+
+    def check(self, person):
+        if not 0 <= person < len(self.entries):
+            raise NoPerson(person)
+
+    def enough(self, person):
+        friends, need = self.entries[person]
+        return len(set(friends) & set(self.row)) >= need
+
+    def come_all(self, people):
+        for person in people:
+            self.check(person)
+            if person in self.row:
+                raise Here(person)
+            if not self.enough(person):
+                raise Early(person)
+            self.row.append(person)
+        return len(self.row)
+
+    def come(self, person):
+        return self.come_all([person])
+
+    def able(self):
+        return [one for one in range(len(self.entries)) if one not in self.row and self.enough(one)]
+
+    def meet(self):
+        able = self.able()
+        self.row.extend(able)
+        return able
+
+    def add_person(self, friends, need):
+        for friend in friends:
+            self.check(friend)
+        if len(self.entries) >= 20:
+            raise Full(len(self.entries))
+        self.entries.append((tuple(friends), need))
+        return len(self.entries) - 1
+
+    def set_need(self, person, need):
+        self.check(person)
+        if person in self.row:
+            raise Here(person)
+        before = self.entries[person]
+        self.entries[person] = (before[0], need)
+        return before[1]
+
+
+def outcome(target, name, given):
+    """What a call returns, or how the document writes its error."""
+    try:
+        return getattr(target, name)(*given)
+    except (NoPerson, Here, Early, Full) as error:
+        return told(error)
+
+
+def random_call(source, many):
+    """An operation that may succeed or fail in a company of that many."""
+    name = source.choice(["come", "come", "come_all", "meet", "add_person", "set_need", "undo"])
+    people = [source.randrange(-1, many + 1) for _ in range(source.randrange(4))]
+    given = {
+        "come": (source.randrange(-1, many + 1),),
+        "come_all": (people,),
+        "add_person": (tuple(sorted(set(people))), source.randrange(3)),
+        "set_need": (source.randrange(-1, many + 1), source.randrange(3)),
+    }
+    return name, given.get(name, ())
 
 
 class SharedTest(unittest.TestCase):

@@ -6,7 +6,8 @@ import unittest
 from enoughcame.companies import is_company
 from enoughcame.errors import Early, Full, Here, NoOperation, NoPerson
 from enoughcame.gathering import Gathering
-from support import FIVE, FOUR, SharedTest, as_lists, list_for_one_tuple, random_company, told
+from support import (FIVE, FOUR, Model, SharedTest, as_lists, list_for_one_tuple, outcome, random_call,
+                     random_company)
 
 EXAMPLES = """
     >>> g = Gathering(five)
@@ -535,82 +536,12 @@ class LenAndRepr(GatheringTest):
         self.assert_same(repr(Gathering((((), 0),) * 20)), "Gathering(0 of 20 people)")
 
 
-class Model:
-    """A company and a row, changed by the words of the document; raises what it says."""
-
-    def __init__(self, company):
-        self.entries, self.row = list(company), []
-
-    def check(self, person):
-        if not 0 <= person < len(self.entries):
-            raise NoPerson(person)
-
-    def enough(self, person):
-        friends, need = self.entries[person]
-        return len(set(friends) & set(self.row)) >= need
-
-    def come_all(self, people):
-        for person in people:
-            self.check(person)
-            if person in self.row:
-                raise Here(person)
-            if not self.enough(person):
-                raise Early(person)
-            self.row.append(person)
-        return len(self.row)
-
-    def come(self, person):
-        return self.come_all([person])
-
-    def meet(self):
-        able = [one for one in range(len(self.entries)) if one not in self.row and self.enough(one)]
-        self.row.extend(able)
-        return able
-
-    def add_person(self, friends, need):
-        for friend in friends:
-            self.check(friend)
-        if len(self.entries) >= 20:
-            raise Full(len(self.entries))
-        self.entries.append((tuple(friends), need))
-        return len(self.entries) - 1
-
-    def set_need(self, person, need):
-        self.check(person)
-        if person in self.row:
-            raise Here(person)
-        before = self.entries[person]
-        self.entries[person] = (before[0], need)
-        return before[1]
-
-
-def outcome(target, name, given):
-    """What a call returns, or how the document writes its error."""
-    try:
-        return getattr(target, name)(*given)
-    except (NoPerson, Here, Early, Full) as error:
-        return told(error)
-
-
 def replayed(company, operations):
     """The model after these operations, all of which succeed."""
     model = Model(company)
     for name, given in operations:
         getattr(model, name)(*given)
     return model
-
-
-def random_call(source, many):
-    """An operation that may succeed or fail in a company of that many."""
-    name = source.choice(["come", "come", "come_all", "meet", "add_person", "set_need", "undo"])
-    people = [source.randrange(-1, many + 1) for _ in range(source.randrange(4))]
-    given = {
-        "come": (source.randrange(-1, many + 1),),
-        "come_all": (people,),
-        "add_person": (tuple(sorted(set(people))), source.randrange(3)),
-        "set_need": (source.randrange(-1, many + 1), source.randrange(3)),
-    }
-    return name, given.get(name, ())
 
 
 class ManyOperations(GatheringTest):
